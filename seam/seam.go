@@ -1,0 +1,79 @@
+// Package seam: texts cut by rules: see DOC.md.
+package seam
+
+import "seam/api"
+
+// Units takes a text apart (P3).
+func Units(text string) ([]rune, []int, api.Errno) {
+	if len(text) > api.MaxText {
+		return nil, nil, api.ErrLong
+	}
+	var runes []rune
+	var starts []int
+	// Go's range has just the document's units: what is no rune comes as
+	// U+FFFD, and one byte wide.
+	for start, r := range text {
+		runes = append(runes, r)
+		starts = append(starts, start)
+	}
+	return runes, starts, api.OK
+}
+
+// Rules are rules that were read.
+type Rules struct{}
+
+// Compile reads rules (P4).
+func Compile(source string) (*Rules, int, api.Errno) { return nil, 0, api.OK }
+
+// Count is how many rules there are (P5).
+func (r *Rules) Count() int { return 0 }
+
+// Places is how many places they have (P5).
+func (r *Rules) Places() int { return 0 }
+
+// Same tells whether the rules can't tell two runes apart (P5).
+func (r *Rules) Same(a, b rune) bool { return false }
+
+// Match is the longest match at a place (P6).
+func (r *Rules) Match(text string, at int) (api.Segment, api.Errno) {
+	return api.Segment{}, api.OK
+}
+
+// Cut cuts a text (P7).
+func (r *Rules) Cut(text string) ([]api.Segment, api.Errno) { return nil, api.OK }
+
+// Cursor goes about in a text that was cut.
+type Cursor struct{}
+
+// Over makes a cursor (P8).
+func (r *Rules) Over(text string) (*Cursor, api.Errno) { return nil, api.OK }
+
+// Current is where it stands (P8).
+func (c *Cursor) Current() int { return 0 }
+
+// First goes to the beginning (P8).
+func (c *Cursor) First() int { return 0 }
+
+// Last goes to the end (P8).
+func (c *Cursor) Last() int { return 0 }
+
+// Next goes to the next boundary (P8).
+func (c *Cursor) Next() int { return 0 }
+
+// Previous goes to the one ahead (P8).
+func (c *Cursor) Previous() int { return 0 }
+
+// Following goes to the first one behind a place (P8).
+func (c *Cursor) Following(i int) int { return 0 }
+
+// Preceding goes to the last one ahead of a place (P8).
+func (c *Cursor) Preceding(i int) int { return 0 }
+
+// IsBoundary tells whether a place is one (P8).
+func (c *Cursor) IsBoundary(i int) bool { return false }
+
+// Pack writes rules as bytes (P9).
+func (r *Rules) Pack() string { return "" }
+
+// Load reads rules that were packed (P9).
+func Load(s string) (*Rules, api.Errno) { return nil, api.OK }
