@@ -1,7 +1,11 @@
 // Package seam: texts cut by rules: see DOC.md.
 package seam
 
-import "seam/api"
+import (
+	"seam/api"
+	"seam/rules"
+	"seam/runes"
+)
 
 // Units takes a text apart (P3).
 func Units(text string) ([]rune, []int, api.Errno) {
@@ -20,19 +24,45 @@ func Units(text string) ([]rune, []int, api.Errno) {
 }
 
 // Rules are rules that were read.
-type Rules struct{}
+type Rules struct {
+	count int
+	sets  []runes.Set // of each place
+}
 
 // Compile reads rules (P4).
-func Compile(source string) (*Rules, int, api.Errno) { return nil, 0, api.OK }
+func Compile(source string) (*Rules, int, api.Errno) {
+	if len(source) > api.MaxRules {
+		return nil, 0, api.ErrLong
+	}
+	exprs, place, errno := rules.Read(source)
+	if errno != api.OK {
+		return nil, place, errno
+	}
+	if len(exprs) > api.MaxCount || rules.Total(exprs) > api.MaxPlaces {
+		return nil, 0, api.ErrLarge
+	}
+	r := &Rules{count: len(exprs)}
+	for _, e := range exprs {
+		r.sets = e.AppendSets(r.sets)
+	}
+	return r, 0, api.OK
+}
 
 // Count is how many rules there are (P5).
-func (r *Rules) Count() int { return 0 }
+func (r *Rules) Count() int { return r.count }
 
 // Places is how many places they have (P5).
-func (r *Rules) Places() int { return 0 }
+func (r *Rules) Places() int { return len(r.sets) }
 
 // Same tells whether the rules can't tell two runes apart (P5).
-func (r *Rules) Same(a, b rune) bool { return false }
+func (r *Rules) Same(a, b rune) bool {
+	for _, set := range r.sets {
+		if set.Has(a) != set.Has(b) {
+			return false
+		}
+	}
+	return true
+}
 
 // Match is the longest match at a place (P6).
 func (r *Rules) Match(text string, at int) (api.Segment, api.Errno) {
