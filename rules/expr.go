@@ -50,15 +50,3 @@ func Total(exprs []*Expr) int {
 	}
 	return total
 }
-
-// AppendSets appends the set of each place, from the left to the right, with
-// a name written out at each use. It is for exprs that are not too large.
-func (e *Expr) AppendSets(sets []runes.Set) []runes.Set {
-	if e.Kind == Place {
-		return append(sets, e.Set)
-	}
-	for _, part := range e.Parts {
-		sets = part.AppendSets(sets)
-	}
-	return sets
-}

@@ -38,8 +38,8 @@ func checkTree(t *testing.T, source string, want ...string) {
 		if got := drawn(expr); got != want[i] {
 			t.Errorf("rule %d of %q: %s, want %s", i, source, got, want[i])
 		}
-		if n := len(expr.AppendSets(nil)); n != expr.Places || n != strings.Count(want[i], "_") {
-			t.Errorf("rule %d of %q: %d sets, %d places, want %d", i, source, n, expr.Places, strings.Count(want[i], "_"))
+		if n := strings.Count(want[i], "_"); expr.Places != n {
+			t.Errorf("rule %d of %q: %d places, want %d", i, source, expr.Places, n)
 		}
 	}
 }
@@ -64,19 +64,6 @@ func TestTreesOfNames(t *testing.T) {
 	checkTree(t, "$x='a'|'b';")
 	checkTree(t, "$x='a'|'b';$x;$x*'c';", "or(a_ b_)", "seq(star(or(a_ b_)) c_)")
 	checkTree(t, "$x='a';$y=$x'b';$y+$x?;", "seq(plus(seq(a_ b_)) maybe(a_))")
-}
-
-func TestSetsComeFromTheLeft(t *testing.T) {
-	exprs, _, _ := rules.Read("$x='bc';'a'$x*|('d'|.)'e'|$x;")
-	sets := exprs[0].AppendSets(nil)
-	for i, r := range "abcd.ebc" {
-		if r != '.' && !sets[i].Has(r) {
-			t.Errorf("place %d has not %c", i, r)
-		}
-	}
-	if more := exprs[0].AppendSets(sets); len(more) != 2*len(sets) {
-		t.Errorf("%d sets behind %d, want as many again", len(more), len(sets))
-	}
 }
 
 func TestTotalOfTooManyPlaces(t *testing.T) {

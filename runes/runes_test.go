@@ -2,6 +2,8 @@ package runes_test
 
 import (
 	"math"
+	"math/rand"
+	"slices"
 	"testing"
 
 	"seam/runes"
@@ -43,11 +45,37 @@ func TestWhatIsNoRuneIsInNoRange(t *testing.T) {
 }
 
 func TestTheListStaysTheCallers(t *testing.T) {
-	list := []runes.Range{{First: 'a', Last: 'c'}}
+	list := []runes.Range{{First: 'd', Last: 'f'}, {First: 'a', Last: 'c'}, {First: 'b', Last: 'd'}}
+	before := slices.Clone(list)
 	of, except := runes.Of(list...), runes.Except(list...)
-	list[0] = runes.One('x')
-	checkHas(t, of, true, 'a', 'b', 'c')
+	if !slices.Equal(list, before) {
+		t.Errorf("the list is now %v, want %v", list, before)
+	}
+	for i := range list {
+		list[i] = runes.One('x')
+	}
+	checkHas(t, of, true, 'a', 'b', 'c', 'd', 'e', 'f')
 	checkHas(t, of, false, 'x')
-	checkHas(t, except, false, 'a', 'b', 'c')
+	checkHas(t, except, false, 'a', 'b', 'c', 'd', 'e', 'f')
 	checkHas(t, except, true, 'x')
+}
+
+// Sets of ranges in any order, which touch, overlap, lie within one another
+// or are the same, against going through all of them.
+func TestRangesAtRandom(t *testing.T) {
+	random := rand.New(rand.NewSource(3))
+	for range 3000 {
+		var list []runes.Range
+		for range random.Intn(12) {
+			first := 'a' + rune(random.Intn(40))
+			list = append(list, runes.Range{First: first, Last: first + rune(random.Intn(6))})
+		}
+		of, except := runes.Of(list...), runes.Except(list...)
+		for r := rune('a' - 2); r < 'a'+50; r++ {
+			want := slices.ContainsFunc(list, func(g runes.Range) bool { return g.First <= r && r <= g.Last })
+			if of.Has(r) != want || except.Has(r) == want {
+				t.Errorf("of %v: %x is in it: %v, except: %v, want %v", list, r, of.Has(r), except.Has(r), want)
+			}
+		}
+	}
 }

@@ -2,9 +2,11 @@
 package seam
 
 import (
+	"slices"
+
 	"seam/api"
+	"seam/match"
 	"seam/rules"
-	"seam/runes"
 )
 
 // Units takes a text apart (P3).
@@ -25,8 +27,8 @@ func Units(text string) ([]rune, []int, api.Errno) {
 
 // Rules are rules that were read.
 type Rules struct {
-	count int
-	sets  []runes.Set // of each place
+	count   int
+	machine *match.Machine
 }
 
 // Compile reads rules (P4).
@@ -41,36 +43,58 @@ func Compile(source string) (*Rules, int, api.Errno) {
 	if len(exprs) > api.MaxCount || rules.Total(exprs) > api.MaxPlaces {
 		return nil, 0, api.ErrLarge
 	}
-	r := &Rules{count: len(exprs)}
-	for _, e := range exprs {
-		r.sets = e.AppendSets(r.sets)
-	}
-	return r, 0, api.OK
+	return &Rules{count: len(exprs), machine: match.New(exprs)}, 0, api.OK
 }
 
 // Count is how many rules there are (P5).
 func (r *Rules) Count() int { return r.count }
 
 // Places is how many places they have (P5).
-func (r *Rules) Places() int { return len(r.sets) }
+func (r *Rules) Places() int { return r.machine.Places() }
 
 // Same tells whether the rules can't tell two runes apart (P5).
-func (r *Rules) Same(a, b rune) bool {
-	for _, set := range r.sets {
-		if set.Has(a) != set.Has(b) {
-			return false
-		}
-	}
-	return true
-}
+func (r *Rules) Same(a, b rune) bool { return r.machine.Same(a, b) }
 
 // Match is the longest match at a place (P6).
 func (r *Rules) Match(text string, at int) (api.Segment, api.Errno) {
-	return api.Segment{}, api.OK
+	units, starts, errno := Units(text)
+	if errno != api.OK {
+		return api.Segment{}, errno
+	}
+	edges := append(starts, len(text))
+	first := unitAt(edges, at)
+	length, rule := r.machine.Run().Longest(units[first:])
+	return api.Segment{From: edges[first], To: edges[first+length], Rule: rule}, api.OK
+}
+
+// unitAt is the unit in which a place lies; the edges are where each unit
+// begins, and the end.
+func unitAt(edges []int, at int) int {
+	unit, isEdge := slices.BinarySearch(edges, at)
+	if !isEdge {
+		// It is the edge above that was found; below 0 there is no other.
+		unit = max(unit-1, 0)
+	}
+	return unit
 }
 
 // Cut cuts a text (P7).
-func (r *Rules) Cut(text string) ([]api.Segment, api.Errno) { return nil, api.OK }
+func (r *Rules) Cut(text string) ([]api.Segment, api.Errno) {
+	units, starts, errno := Units(text)
+	if errno != api.OK {
+		return nil, errno
+	}
+	edges := append(starts, len(text))
+	run := r.machine.Run()
+	var segments []api.Segment
+	for first := 0; first < len(units); {
+		length, rule := run.Longest(units[first:])
+		end := first + max(length, 1)
+		segments = append(segments, api.Segment{From: edges[first], To: edges[end], Rule: rule})
+		first = end
+	}
+	return segments, api.OK
+}
 
 // Cursor goes about in a text that was cut.
 type Cursor struct{}
