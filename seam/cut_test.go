@@ -238,6 +238,9 @@ func someCalls(texts ...string) []call {
 		calls = append(calls, func(r *seam.Rules) string {
 			l, e := r.Cut(text)
 			return fmt.Sprint(l, e)
+		}, func(r *seam.Rules) string {
+			c, e := r.Over(text)
+			return fmt.Sprint(forwards(c), backwards(c), c.Following(len(text)/2), c.Preceding(len(text)/2), c.IsBoundary(1), e)
 		})
 		for at := -1; at <= len(text)+1; at++ {
 			calls = append(calls, func(r *seam.Rules) string {
@@ -248,6 +251,8 @@ func someCalls(texts ...string) []call {
 	}
 	return append(calls, func(r *seam.Rules) string {
 		return fmt.Sprint(r.Count(), r.Places(), r.Same('a', 'b'), r.Same('a', 'c'))
+	}, func(r *seam.Rules) string {
+		return r.Pack()
 	})
 }
 
@@ -321,8 +326,12 @@ func TestP10RulesThatMatchTheSame(t *testing.T) {
 		for _, source := range row[1:] {
 			r := compiled(t, source)
 			for _, text := range texts {
-				if got, want := cut(t, r, text), cut(t, first, text); !slices.Equal(got, want) {
+				want := cut(t, first, text)
+				if got := cut(t, r, text); !slices.Equal(got, want) {
 					t.Errorf("by %q Cut(%q) = %v, by %q %v", source, text, got, row[0], want)
+				}
+				if got := forwards(over(t, r, text)); !slices.Equal(got, boundaries(want)) {
+					t.Errorf("by %q the boundaries of %q are %v, by %q %v", source, text, got, row[0], boundaries(want))
 				}
 			}
 		}

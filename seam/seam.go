@@ -3,6 +3,7 @@ package seam
 
 import (
 	"slices"
+	"strings"
 
 	"seam/api"
 	"seam/match"
@@ -27,6 +28,7 @@ func Units(text string) ([]rune, []int, api.Errno) {
 
 // Rules are rules that were read.
 type Rules struct {
+	source  string // for Pack alone
 	count   int
 	machine *match.Machine
 }
@@ -43,7 +45,13 @@ func Compile(source string) (*Rules, int, api.Errno) {
 	if len(exprs) > api.MaxCount || rules.Total(exprs) > api.MaxPlaces {
 		return nil, 0, api.ErrLarge
 	}
-	return &Rules{count: len(exprs), machine: match.New(exprs)}, 0, api.OK
+	return &Rules{
+		// A string of our own: the caller's may be a piece of one that is
+		// much longer, and all of that would be kept with it.
+		source:  strings.Clone(source),
+		count:   len(exprs),
+		machine: match.New(exprs),
+	}, 0, api.OK
 }
 
 // Count is how many rules there are (P5).
@@ -95,39 +103,3 @@ func (r *Rules) Cut(text string) ([]api.Segment, api.Errno) {
 	}
 	return segments, api.OK
 }
-
-// Cursor goes about in a text that was cut.
-type Cursor struct{}
-
-// Over makes a cursor (P8).
-func (r *Rules) Over(text string) (*Cursor, api.Errno) { return nil, api.OK }
-
-// Current is where it stands (P8).
-func (c *Cursor) Current() int { return 0 }
-
-// First goes to the beginning (P8).
-func (c *Cursor) First() int { return 0 }
-
-// Last goes to the end (P8).
-func (c *Cursor) Last() int { return 0 }
-
-// Next goes to the next boundary (P8).
-func (c *Cursor) Next() int { return 0 }
-
-// Previous goes to the one ahead (P8).
-func (c *Cursor) Previous() int { return 0 }
-
-// Following goes to the first one behind a place (P8).
-func (c *Cursor) Following(i int) int { return 0 }
-
-// Preceding goes to the last one ahead of a place (P8).
-func (c *Cursor) Preceding(i int) int { return 0 }
-
-// IsBoundary tells whether a place is one (P8).
-func (c *Cursor) IsBoundary(i int) bool { return false }
-
-// Pack writes rules as bytes (P9).
-func (r *Rules) Pack() string { return "" }
-
-// Load reads rules that were packed (P9).
-func Load(s string) (*Rules, api.Errno) { return nil, api.OK }
